@@ -1,0 +1,1 @@
+"""Provedunseen: showing that a statement holds without telling why."""
