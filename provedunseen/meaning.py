@@ -1,8 +1,9 @@
 """What statements mean: the wires of circuits, and which values are witnesses."""
 
-from provedunseen.errors import BadStatement, BadWitness
+from provedunseen.errors import BadWitness
 from provedunseen.graphs import has_edge, is_ring_form, ring_edges
 from provedunseen.perms import is_permutation
+from provedunseen.statements import require_kind
 
 
 def gate_value(name, first, second=0):
@@ -18,8 +19,7 @@ def gate_value(name, first, second=0):
 
 def wire_values(statement, bits):
     """Return the values of all wires of a circuit for these values of its inputs."""
-    if statement[0] != "circuit":
-        raise BadStatement("only a circuit has wires")
+    require_kind(statement, "circuit")
     _, inputs, gates = statement
     if not is_bits(bits, inputs):
         raise BadWitness("there must be one bit for each input")
@@ -44,7 +44,12 @@ def holds(statement, witness):
     """Tell whether the value, an integer or any nested tuple of integers, is a witness of the statement."""
     if statement[0] in ("both", "either"):
         return isinstance(witness, tuple) and len(witness) == 2 and holds_join(statement, witness)
-    return has_form(statement, witness) and fits(statement, witness)
+    return holds_atom(statement, witness)
+
+
+def holds_atom(atom, witness):
+    """Tell whether the value is a witness of the atom."""
+    return has_form(atom, witness) and fits(atom, witness)
 
 
 def holds_join(statement, witness):

@@ -9,16 +9,10 @@ MOST_DRAWS = 3000
 class Scheme:
     """How something is shown with boxes.
 
-    A derived class gives its objects the attributes `questions`, `boxes` and `draws`, by
-    `set_numbers` or by itself, and defines all twelve contract methods in its own body.
-    Those that stand here are the ones of a scheme without questions and witnesses.
+    A derived class gives its objects the attributes `questions`, `boxes` and `draws`, and
+    defines all twelve contract methods in its own body. Those that stand here are the ones
+    of a scheme without questions and witnesses.
     """
-
-    def set_numbers(self, questions, boxes, draws):
-        """Set the numbers of questions, of boxes in a deal, and of draws."""
-        self.questions = questions
-        self.boxes = boxes
-        self.draws = draws
 
     # The contract methods.
 
@@ -87,6 +81,21 @@ class Scheme:
         if draw < 0 or draw >= self.draws:
             raise BadDraw("the scheme has no such draw")
 
+    def require_knower(self, witness, draw):
+        """Raise the error of the witness, then that of the draw."""
+        self.require_witness(witness)
+        self.require_draw(draw)
+
+    def require_simulated(self, question, draw):
+        """Raise the error of the question, then that of the draw."""
+        self.require_question(question)
+        self.require_draw(draw)
+
+    def require_reply(self, question, witness, draw):
+        """Raise the error of the question, then that of the witness, then that of the draw."""
+        self.require_question(question)
+        self.require_knower(witness, draw)
+
     def require_contents(self, contents):
         """Raise BadContents if there is not one integer for each box."""
         if len(contents) != self.boxes:
@@ -96,9 +105,7 @@ class Scheme:
 
     def reply(self, witness, draw, question):
         """Return the word of a knower and the contents of the revealed boxes."""
-        self.require_question(question)
-        self.require_witness(witness)
-        self.require_draw(draw)
+        self.require_reply(question, witness, draw)
         word = self.word(witness, draw, question)
         contents = self.fill(witness, draw)
         return (word, tuple([contents[box] for box in self.boxes_for(question, word)]))

@@ -82,3 +82,9 @@ def atom_count(statement):
     if statement[0] in ("both", "either"):
         return atom_count(statement[1]) + atom_count(statement[2])
     return 1
+
+
+def require_kind(statement, kind):
+    """Raise BadStatement if the statement is of another kind."""
+    if statement[0] != kind:
+        raise BadStatement(f"this is no statement of the kind {kind}")

@@ -5,6 +5,7 @@ from itertools import permutations
 from provedunseen.errors import BadDraw, BadWitness
 from provedunseen.graphs import ring_forms
 from provedunseen.meaning import fits, holds
+from provedunseen.rows import rows_of
 
 
 def witnesses(statement):
@@ -38,14 +39,6 @@ def candidates(atom):
     if kind == "alike":
         return list(permutations(range(nodes)))
     return rows_of(nodes, atom[2])
-
-
-def rows_of(size, count):
-    """Return the ascending list of the tuples of so many integers from 0 to count - 1."""
-    rows = [()]
-    for _ in range(size):
-        rows = [row + (entry,) for row in rows for entry in range(count)]
-    return rows
 
 
 def counted(statement):

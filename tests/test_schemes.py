@@ -3,20 +3,13 @@
 import itertools
 import unittest
 
+from contract import CONTRACT
 from interface import InterfaceChecks
 from provedunseen.distributions import Distribution
 from provedunseen.errors import (
     BadContents, BadDraw, BadQuestion, BadWitness, NothingExtracted, TooLarge,
 )
 from provedunseen.schemes import Scheme
-
-CONTRACT = {
-    "holds": "(self, witness)", "fill": "(self, witness, draw)", "word": "(self, witness, draw, question)",
-    "words": "(self, question)", "word_length": "(self, question, word)", "boxes_for": "(self, question, word)",
-    "judge": "(self, question, word, shown)", "simulate": "(self, question, draw)",
-    "find_draw": "(self, question, word, shown)", "matching_draw": "(self, witness, question, draw)",
-    "original_draw": "(self, witness, question, draw)", "read": "(self, contents, words)",
-}
 
 
 class Small(Scheme):
@@ -81,22 +74,16 @@ class BaseTest(unittest.TestCase, InterfaceChecks):
         })
 
     def test_numbers_of_a_derived_class(self):
-        class Given(Small):
-            def __init__(self):
-                super().__init__()
-                self.set_numbers(1, 2, 3)
-
         class Fixed(Scheme):
             questions, boxes, draws = 1, 2, 3
 
-        for scheme in (Given(), Fixed()):
-            self.assertEqual((scheme.questions, scheme.boxes, scheme.draws), (1, 2, 3))
+        for scheme in (Small(3), Fixed()):
             with self.assertRaises(BadContents):
                 scheme.accepts((0,), 0, ())
 
     def test_contract_of_a_scheme_without_questions(self):
         scheme = Scheme()
-        scheme.set_numbers(0, 0, 0)
+        scheme.questions = scheme.boxes = scheme.draws = 0
         self.assertIs(scheme.holds(0), False)
         self.assertEqual(scheme.passed(()), ())
         with self.assertRaises(BadContents):
