@@ -1,11 +1,11 @@
 """Cheats, who have no witness and fill the boxes as they like."""
 
 from provedunseen.errors import BadContents, TooLarge
+from provedunseen.ledgers import BLANK
 from provedunseen.ratios import Ratio
 
 MOST_SIGNS = 100
 MOST_FILLINGS = 1000
-BLANK = -1
 
 
 def fillings_of(boxes, signs):

@@ -2,13 +2,12 @@
 
 from provedunseen.cheats import best_filling, guess_filling
 from provedunseen.errors import BadPlan, BadRatio
+from provedunseen.ledgers import BLANK, GREATEST_CONTENT, are_contents
 from provedunseen.ratios import MOST_TIMES, Ratio
 from provedunseen.rows import rows_of
 
 MOST_DEALS = 3
 QUESTION_SIGNS = "0123456789abcde"
-LEAST_CONTENT = -1
-GREATEST_CONTENT = 99
 
 
 def row_text(row):
@@ -32,8 +31,8 @@ def require_sealable(scheme, contents):
     """Raise BadPlan if there is not one integer from -1 to 99 for each box."""
     if len(contents) != scheme.boxes:
         raise BadPlan("there must be one integer for each box")
-    if any([not LEAST_CONTENT <= content <= GREATEST_CONTENT for content in contents]):
-        raise BadPlan(f"contents are from {LEAST_CONTENT} to {GREATEST_CONTENT}")
+    if not are_contents(contents):
+        raise BadPlan(f"contents are from {BLANK} to {GREATEST_CONTENT}")
 
 
 def rows_before(scheme, deals):

@@ -203,6 +203,38 @@ class LanguageTest(unittest.TestCase):
         for module, node in nodes(ast.Attribute):
             self.assertIn(node.attr, known, module)
 
+    def test_no_name_is_a_method_and_an_attribute(self):
+        assigned = {node.attr for _, node in nodes(ast.Attribute) if isinstance(node.ctx, ast.Store)}
+        self.assertEqual(assigned & own_methods(), set())
+        self.assertEqual((assigned | own_methods()) & {name for name in METHODS if name != "count"}, set())
+
+    def test_local_names_are_not_those_of_the_file(self):
+        for module, node in nodes(ast.FunctionDef):
+            names = [each for each in ast.walk(node) if isinstance(each, ast.Name)]
+            local = {each.id for each in names if isinstance(each.ctx, ast.Store)}
+            local |= {each.arg for each in ast.walk(node) if isinstance(each, ast.arg)}
+            self.assertEqual(local & set(top_names(module)), set(), f"{module}.{node.name}")
+
+    def test_finally_only_assigns(self):
+        for module, node in nodes(ast.Try):
+            for each in node.finalbody:
+                self.assertIsInstance(each, ast.Assign, module)
+                self.assertIsInstance(each.value, (ast.Name, ast.Attribute, ast.Constant), module)
+
+    def test_super_is_only_called_for_a_method(self):
+        called = [node.func.value for _, node in nodes(ast.Call) if isinstance(node.func, ast.Attribute)]
+        for module, node in nodes(ast.Call):
+            if isinstance(node.func, ast.Name) and node.func.id == "super":
+                self.assertEqual((node.args, node.keywords), ([], []), module)
+                self.assertIn(node, called, module)
+
+    def test_module_level_lists_and_dicts_are_not_handed_on(self):
+        # All tables of the package are tuples, which are free.
+        for module, tree in TREES.items():
+            for node in tree.body:
+                if isinstance(node, ast.Assign):
+                    self.assertNotIsInstance(node.value, (ast.List, ast.Dict, ast.Set), module)
+
     def test_expressions_that_need_a_list(self):
         # The package has classes with __eq__ and with operators: then these take no generator expression.
         for module, node in nodes(ast.Call):
