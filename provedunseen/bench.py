@@ -2,16 +2,12 @@
 
 from provedunseen.building import scheme_of
 from provedunseen.errors import BadBench, BadText, BadWitness
-from provedunseen.meetings import Meeting
+from provedunseen.meetings import GREATEST_NUMBER, MOST_DEALS, MOST_MOVES, NO_LIMIT, Meeting
 from provedunseen.reader import DIGITS
 from provedunseen.texts import parse_statement, parse_witness
 
 MOST_DIGITS = 9
-MOST_DEALS = 3
 MOST_NUMBERS = 40
-MOST_MOVES = 20
-GREATEST_NUMBER = 99
-NO_LIMIT = -1
 # The lines of the statement, the witness, the deals, the numbers and the coins.
 HEAD = 5
 

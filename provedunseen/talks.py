@@ -3,7 +3,7 @@
 from provedunseen.ledgers import Budget, Ledger, SimulatedLedger, Tape
 from provedunseen.programs import require_steps
 from provedunseen.responders import Knower, Simulator, attempt
-from provedunseen.writers import next_cut
+from provedunseen.writers import cut_at
 
 
 def revealed_boxes(responder):
@@ -23,10 +23,11 @@ def step_event(responder, move, cuts):
     """Let the responder carry out the move of a program, through all crashes, and return the event."""
     known = revealed_boxes(responder)
     posted = len(responder.ledger.letters)
-    left = list(cuts)
-    ended = attempt(responder, carried_move(responder, move), writes=next_cut(left))
+    ended = attempt(responder, carried_move(responder, move), writes=cut_at(cuts, 0))
+    restarts = 0
     while not ended:
-        ended = attempt(responder, ("restart",), writes=next_cut(left))
+        restarts += 1
+        ended = attempt(responder, ("restart",), writes=cut_at(cuts, restarts))
     # No move posts more than one letter, and no restart posts any.
     letters = responder.ledger.letters[posted:]
     letter = letters[0] if len(letters) > 0 else ()

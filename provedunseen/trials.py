@@ -5,7 +5,7 @@ from provedunseen.errors import BadSchedule
 from provedunseen.ledgers import Budget, Ledger, Tape
 from provedunseen.plans import check_plan, row_text
 from provedunseen.views import all_tapes
-from provedunseen.writers import limited, next_cut
+from provedunseen.writers import cut_at, limited
 
 MOST_CUTS = 6
 GREATEST_CUT = 9
@@ -19,11 +19,13 @@ class Trial:
         self.scheme = scheme
         self.plan = plan
         self.asker = asker
-        self.cuts_left = list(cuts)
+        self.limits = cuts
+        self.told = 0
 
     def tell(self, letter):
         """Let the asker hear the letter; restart it if it crashes, and tell whether it did not."""
-        ended = limited(self.asker.budget, next_cut(self.cuts_left), self.asker.hear, letter)
+        ended = limited(self.asker.budget, cut_at(self.limits, self.told), self.asker.hear, letter)
+        self.told += 1
         if not ended:
             self.asker.restart()
         return ended

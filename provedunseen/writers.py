@@ -8,9 +8,9 @@ def fits_form(row, forms):
     return len(row) > 0 and (row[0], len(row)) in forms and all([number >= 0 for number in row[1:]])
 
 
-def next_cut(cuts):
-    """Take the first of the cuts off the list and return it, or None for no limit if none is left."""
-    return cuts.pop(0) if len(cuts) > 0 else None
+def cut_at(cuts, place):
+    """Return the cut at the place, or None for no limit behind the last one."""
+    return cuts[place] if place < len(cuts) else None
 
 
 def limited(budget, writes, act, *told):
